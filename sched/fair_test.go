@@ -181,7 +181,7 @@ func TestFairAny(t *testing.T) {
 	}
 }
 
-// Bound, by numbers that were worked out by hand from the chapter's words.
+// Bound, by numbers that were worked out beside, by a script of the chapter's formula; 4635 is the chapter's own.
 func TestBound(t *testing.T) {
 	get := getOp("a")
 	of := func(nodes, leaf int, clients ...[]api.Op) api.Script {
